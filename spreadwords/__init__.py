@@ -1,0 +1,1 @@
+"""Spreadwords: texts known by the short words that lie spread in them."""
