@@ -1,0 +1,45 @@
+"""Machines that read texts: (letters, begin, ends, steps)."""
+
+from spreadwords.errors import NoMachine
+from spreadwords.words import is_letters, rising
+
+MOST_ROOMS = 6
+
+
+def all_there(rooms, count):
+    return all([0 <= room < count for room in rooms])
+
+
+def look_steps(letters, steps):
+    for number, row in enumerate(steps):
+        if len(row) != len(letters) or not all_there(row, len(steps)):
+            raise NoMachine("steps", number)
+
+
+def look_machine(machine):
+    letters = machine[0]
+    ends = machine[2]
+    steps = machine[3]
+    if not is_letters(letters):
+        raise NoMachine("letters", len(letters))
+    if not 1 <= len(steps) <= MOST_ROOMS:
+        raise NoMachine("rooms", len(steps))
+    if not 0 <= machine[1] < len(steps):
+        raise NoMachine("begin", 0)
+    if not (rising(ends) and all_there(ends, len(steps))):
+        raise NoMachine("ends", len(ends))
+    look_steps(letters, steps)
+    return True
+
+
+def room_behind(machine, room, text):
+    letters = machine[0]
+    steps = machine[3]
+    behind = room
+    for letter in text:
+        behind = steps[behind][letters.index(letter)]
+    return behind
+
+
+def takes(machine, text):
+    return room_behind(machine, machine[1], text) in machine[2]
