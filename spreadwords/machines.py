@@ -1,6 +1,6 @@
 """Machines that read texts: (letters, begin, ends, steps)."""
 
-from spreadwords.errors import NoMachine
+from spreadwords.errors import NoFit, NoMachine
 from spreadwords.words import is_letters, rising
 
 MOST_ROOMS = 6
@@ -43,3 +43,12 @@ def room_behind(machine, room, text):
 
 def takes(machine, text):
     return room_behind(machine, machine[1], text) in machine[2]
+
+
+def look_fit(one, other):
+    if one[0] != other[0]:
+        raise NoFit()
+
+
+def pair_behind(one, other, pair, letter):
+    return (room_behind(one, pair[0], letter), room_behind(other, pair[1], letter))

@@ -1,6 +1,7 @@
 """What the document says, word for word and slowly: the tests hold the program against this."""
 
 from itertools import combinations, product
+from random import Random
 
 
 def texts_of(letters, most):
@@ -41,3 +42,61 @@ def first_parting(one, other):
 
 def alike_to(one, other, k):
     return words_in_text(one, k) == words_in_text(other, k)
+
+
+def room_after(machine, room, text):
+    letters, begin, ends, steps = machine
+    for letter in text:
+        room = steps[room][letters.index(letter)]
+    return room
+
+
+def taken(machine, text):
+    return room_after(machine, machine[1], text) in machine[2]
+
+
+def texts_taken(machine, most):
+    return [text for text in texts_of(machine[0], most) if taken(machine, text)]
+
+
+def least_by_search(machine):
+    """The least machine: rooms known by which texts lead from them to ends, numbered as texts come upon them."""
+    letters, begin, ends, steps = machine
+    tails = list(texts_of(letters, len(steps)))
+    known = {}
+
+    def sort_of(text):
+        room = room_after(machine, begin, text)
+        if room not in known:
+            known[room] = tuple(room_after(machine, room, tail) in ends for tail in tails)
+        return known[room]
+
+    firsts = {}
+    for text in texts_of(letters, len(steps)):
+        firsts.setdefault(sort_of(text), text)
+    sorts = list(firsts)
+    return (letters, 0,
+            tuple(number for number, sort in enumerate(sorts) if sort[0]),
+            tuple(tuple(sorts.index(sort_of(firsts[sort] + letter)) for letter in letters) for sort in sorts))
+
+
+def chance_machines(letters, rooms, count, seed):
+    """Machines made by a chance that is the same each time."""
+    dice = Random(seed)
+    for number in range(count):
+        ends = tuple(room for room in range(rooms) if dice.randrange(2))
+        steps = tuple(tuple(dice.randrange(rooms) for letter in letters) for room in range(rooms))
+        yield (letters, dice.randrange(rooms), ends, steps)
+
+
+def kinds_of(value):
+    """The kinds of a value and of all that lies in it, as a text."""
+    if type(value) in (tuple, list):
+        return type(value).__name__ + "(" + " ".join(kinds_of(part) for part in value) + ")"
+    return type(value).__name__
+
+
+def kinds_of_machine(letters, ends, rooms):
+    """The kinds that a machine of so many letters, ends and rooms is to have."""
+    row = "tuple(" + " ".join(["int"] * letters) + ")"
+    return ("tuple(str int tuple(" + " ".join(["int"] * ends) + ") tuple(" + " ".join([row] * rooms) + "))")
