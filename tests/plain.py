@@ -100,3 +100,35 @@ def kinds_of_machine(letters, ends, rooms):
     """The kinds that a machine of so many letters, ends and rooms is to have."""
     row = "tuple(" + " ".join(["int"] * letters) + ")"
     return ("tuple(str int tuple(" + " ".join(["int"] * ends) + ") tuple(" + " ".join([row] * rooms) + "))")
+
+
+def held(wish, text):
+    """Whether a wish holds of a text."""
+    name = wish[0]
+    if name == "has":
+        return lies_in(wish[1], text)
+    if name == "not":
+        return not held(wish[1], text)
+    if name == "and":
+        return held(wish[1], text) and held(wish[2], text)
+    if name == "or":
+        return held(wish[1], text) or held(wish[2], text)
+    return {"always": True, "never": False}[name]
+
+
+def chance_wish(letters, deep, dice):
+    """A wish made by chance, none of its parts deeper than told."""
+    name = dice.choice(["always", "never", "has", "has", "not", "and", "or", "and", "or"][:9 if deep else 4])
+    if name == "has":
+        return ("has", "".join(dice.choice(letters) for letter in range(dice.randrange(4))))
+    if name == "not":
+        return ("not", chance_wish(letters, deep - 1, dice))
+    if name in ("and", "or"):
+        return (name, chance_wish(letters, deep - 1, dice), chance_wish(letters, deep - 1, dice))
+    return (name,)
+
+
+def chance_wishes(letters, deep, count, seed):
+    """Wishes made by a chance that is the same each time."""
+    dice = Random(seed)
+    return [chance_wish(letters, deep, dice) for number in range(count)]

@@ -108,6 +108,30 @@ class Language(unittest.TestCase):
                     self.assertIsNone(name.asname, where)
                     self.assertIn(name.name, defined, where)
 
+    def test_no_two_files_draw_from_one_another(self):
+        drawn = {path.stem: {node.module.split(".")[1] for node in ast.walk(ast.parse(path.read_text()))
+                             if isinstance(node, ast.ImportFrom)} for path in FILES}
+        while drawn:
+            free = [name for name in drawn if not drawn[name] & set(drawn)]
+            self.assertNotEqual(free, [], sorted(drawn))
+            drawn = {name: drawn[name] for name in drawn if name not in free}
+
+    def test_names_of_a_files_top_stand_there_once(self):
+        for path in FILES:
+            names = []
+            for node in ast.parse(path.read_text()).body:
+                if isinstance(node, ast.ImportFrom):
+                    names += [part.name for part in node.names]
+                elif isinstance(node, (ast.FunctionDef, ast.ClassDef)):
+                    names.append(node.name)
+                elif isinstance(node, ast.Assign):
+                    names.append(node.targets[0].id)
+            self.assertEqual(len(names), len(set(names)), path.name)
+
+    def test_two_like_lambdas_do_not_stand_on_one_line(self):
+        lambdas = [(where, ast.unparse(node.args)) for where, node in self.each_node() if isinstance(node, ast.Lambda)]
+        self.assertEqual(len(lambdas), len(set(lambdas)))
+
     def test_names(self):
         for path in FILES:
             tree = ast.parse(path.read_text())
