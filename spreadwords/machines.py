@@ -50,5 +50,15 @@ def look_fit(one, other):
         raise NoFit()
 
 
+def forks(machine):
+    # Each room with each two letters, in order.
+    letters = machine[0]
+    told = []
+    for room in range(len(machine[3])):
+        for place, letter in enumerate(letters):
+            told.extend([(room, letter, later) for later in letters[place + 1:]])
+    return told
+
+
 def pair_behind(one, other, pair, letter):
     return (room_behind(one, pair[0], letter), room_behind(other, pair[1], letter))

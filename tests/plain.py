@@ -132,3 +132,141 @@ def chance_wishes(letters, deep, count, seed):
     """Wishes made by a chance that is the same each time."""
     dice = Random(seed)
     return [chance_wish(letters, deep, dice) for number in range(count)]
+
+
+def rising_machines(letters, rooms, count, seed):
+    """Machines made by chance whose steps never lead back to a room that was left."""
+    dice = Random(seed)
+    for number in range(count):
+        ends = tuple(room for room in range(rooms) if dice.randrange(2))
+        steps = tuple(tuple(dice.randrange(room, rooms) for letter in letters) for room in range(rooms))
+        yield (letters, 0, ends, steps)
+
+
+def all_machines(letters, rooms):
+    """All machines of these letters and of so many rooms that begin at room 0."""
+    rows = list(product(range(rooms), repeat=len(letters)))
+    for steps in product(rows, repeat=rooms):
+        for marks in product((False, True), repeat=rooms):
+            yield (letters, 0, tuple(room for room in range(rooms) if marks[room]), steps)
+
+
+def swollen(machine):
+    """The same machine with each room twice, begun at the second one, and with a room that no text leads to."""
+    letters, begin, ends, steps = machine
+    rooms = len(steps)
+    rows = [tuple(there + rooms * ((there + place) % 2) for place, there in enumerate(row)) for row in steps]
+    again = [tuple(there + rooms * ((there + place + 1) % 2) for place, there in enumerate(row)) for row in steps]
+    return (letters, begin + rooms, tuple(ends) + tuple(room + rooms for room in ends) + (2 * rooms,),
+            tuple(rows + again + [(begin,) * len(letters)]))
+
+
+def spread_set(text, k):
+    """The set of the words of at most k letters in a text, letter by letter: for long texts."""
+    words = {""}
+    for letter in text:
+        words |= {word + letter for word in words if len(word) < k}
+    return words
+
+
+def rooms_from(machine, room):
+    """All rooms to which texts lead from a room."""
+    found = [room]
+    for here in found:
+        found += sorted(set(machine[3][here]) - set(found))
+    return found
+
+
+def rises(machine):
+    """Whether no text leads away from a room and back to it."""
+    return not any(room in rooms_from(machine, there) for room, row in enumerate(machine[3])
+                   for there in row if there != room)
+
+
+def fork_meets(machine, room, x, y):
+    """Whether a word of two letters leads to the same room from where they lead."""
+    letters, begin, ends, steps = machine
+    places = [letters.index(x), letters.index(y)]
+    found = [tuple(steps[room][place] for place in places)]
+    for one, other in found:
+        if one == other:
+            return True
+        for place in places:
+            pair = (steps[one][place], steps[other][place])
+            if pair not in found:
+                found.append(pair)
+    return False
+
+
+def first_sort(least_machine):
+    """Whether a paper of the first sort holds of a machine that is a least one."""
+    return rises(least_machine) and all(fork_meets(least_machine, room, x, y)
+                                        for room in range(len(least_machine[3]))
+                                        for x, y in combinations(least_machine[0], 2))
+
+
+def paper_so(own, paper):
+    """Whether a paper holds of a machine that is a least one, clause by clause."""
+    letters, begin, ends, steps = own
+    rooms = range(len(steps))
+
+    def leads(room, text):
+        return room_after(own, room, text)
+
+    if paper[0] == "spread":
+        ranks, meets = paper[1:]
+        if len(ranks) != len(rooms):
+            return False
+        for room in rooms:
+            for letter in letters:
+                there = leads(room, letter)
+                if there != room and ranks[there] <= ranks[room]:
+                    return False
+        for room, x, y, w in meets:
+            if room not in rooms or x not in letters or y not in letters or x >= y or not set(w) <= {x, y}:
+                return False
+            if leads(leads(room, x), w) != leads(leads(room, y), w):
+                return False
+        wanted = {(room, x, y) for room in rooms for x, y in combinations(letters, 2)}
+        return wanted <= {row[:3] for row in meets}
+    if paper[0] == "ring":
+        room, u, v = paper[1:]
+        if room not in rooms or not set(u + v) <= set(letters):
+            return False
+        return leads(room, u) != room and leads(leads(room, u), v) == room
+    room, x, y, w = paper[1:]
+    if room not in rooms or x not in letters or y not in letters or x == y or not set(w) <= {x, y}:
+        return False
+    one, other = leads(leads(room, x), w), leads(leads(room, y), w)
+    return one != other and all(leads(end, letter) == end for end in (one, other) for letter in (x, y))
+
+
+def longest_by_search(least_machine):
+    """The most letters that lead, each to a room where one wasn't yet, of all ways from the begin."""
+    most = 0
+    ways = [(least_machine[1],)]
+    while ways:
+        most = len(ways[0]) - 1
+        ways = [way + (there,) for way in ways for there in sorted(set(least_machine[3][way[-1]]) - set(way))]
+    return most
+
+
+def rooms_by_words(machine, k):
+    """By each set of words of at most k letters that lie spread in a text all rooms to which such texts lead."""
+    letters, begin, ends, steps = machine
+    found = [(frozenset({""}), begin)]
+    seen = set(found)
+    rooms = {}
+    for words, room in found:
+        rooms.setdefault(words, set()).add(room)
+        for place, letter in enumerate(letters):
+            longer = words | {word + letter for word in words if len(word) < k}
+            if (longer, steps[room][place]) not in seen:
+                seen.add((longer, steps[room][place]))
+                found.append((longer, steps[room][place]))
+    return rooms
+
+
+def parts_alike(machine, k):
+    """Whether a machine parts two texts that are alike to k."""
+    return any(len({room in machine[2] for room in rooms}) == 2 for rooms in rooms_by_words(machine, k).values())
