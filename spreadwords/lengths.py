@@ -29,10 +29,8 @@ def taken_words(machine, k):
     return told
 
 
-def alike_taken(one, other, k):
-    # Two texts that are alike to k, the first taken by one machine and the second by the other.
-    here = taken_words(one, k)
-    there = taken_words(other, k)
+def alike_texts(here, there):
+    # Of what taken_words tells of two machines: two texts that are alike, one of each.
     for words in here:
         if words in there:
             return (here[words], there[words])
@@ -40,7 +38,7 @@ def alike_taken(one, other, k):
 
 
 def parted_at(machine, k):
-    return alike_taken(machine, contrary(machine), k)
+    return alike_texts(taken_words(machine, k), taken_words(contrary(machine), k))
 
 
 def least_length(machine):

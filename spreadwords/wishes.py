@@ -11,6 +11,10 @@ def inner_count(name):
     return INNER.get(name)
 
 
+def inner_wishes(wish):
+    return wish[len(wish) - INNER[wish[0]]:]
+
+
 # Wishes may be deeper than calls may go, so they are taken apart into their heads and put together from them:
 # the head of a wish is the wish without the wishes in it, and the heads stand as the wish's text has them.
 
@@ -20,9 +24,9 @@ def heads_in(wish):
     waiting = [wish]
     while waiting:
         part = waiting.pop()
-        inner = INNER[part[0]]
-        told.append(part[:len(part) - inner])
-        waiting.extend(list(reversed(part[len(part) - inner:])))
+        inner = inner_wishes(part)
+        told.append(part[:len(part) - len(inner)])
+        waiting.extend(list(reversed(inner)))
     return told
 
 
@@ -34,6 +38,19 @@ def wish_from(heads):
             inner.append(waiting.pop())
         waiting.append(head + tuple(inner))
     return waiting.pop()
+
+
+def depth_of(wish):
+    # How deep its deepest part is; the wish itself is 0 deep.
+    depth = 0
+    level = inner_wishes(wish)
+    while level:
+        deeper = []
+        for part in level:
+            deeper.extend(inner_wishes(part))
+        level = deeper
+        depth = depth + 1
+    return depth
 
 
 def truth(heads, lying):

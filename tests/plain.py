@@ -270,3 +270,25 @@ def rooms_by_words(machine, k):
 def parts_alike(machine, k):
     """Whether a machine parts two texts that are alike to k."""
     return any(len({room in machine[2] for room in rooms}) == 2 for rooms in rooms_by_words(machine, k).values())
+
+
+def depth_in(wish):
+    """How deep the deepest part of a wish lies in it."""
+    return max([1 + depth_in(part) for part in wish[1:] if type(part) is tuple], default=0)
+
+
+def parts_in(wish):
+    """All wishes in a wish, itself too."""
+    return [wish] + [inner for part in wish[1:] if type(part) is tuple for inner in parts_in(part)]
+
+
+def kinds_of_wish(wish):
+    """Whether a wish is made of tuples and texts as a wish is to be, none of its words but texts of letters."""
+    counts = {"always": (), "never": (), "has": (str,), "not": (tuple,), "and": (tuple, tuple), "or": (tuple, tuple)}
+    return all(type(part) is tuple and tuple(type(thing) for thing in part[1:]) == counts[part[0]]
+               for part in parts_in(wish))
+
+
+def words_taken(machine, k):
+    """The sets of words of at most k letters that lie spread in texts that a machine takes."""
+    return {words for words, rooms in rooms_by_words(machine, k).items() if rooms & set(machine[2])}

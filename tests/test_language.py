@@ -161,6 +161,30 @@ class Language(unittest.TestCase):
             if isinstance(node, ast.Call) and isinstance(node.func, ast.Attribute):
                 self.assertIn(node.func.attr, set(METHODS) | own, where)
 
+    def test_no_name_is_a_method_here_and_a_value_there(self):
+        methods = {part.name for where, node in self.each_node() if isinstance(node, ast.ClassDef)
+                   for part in node.body if isinstance(part, ast.FunctionDef)}
+        values = {node.attr for where, node in self.each_node()
+                  if isinstance(node, ast.Attribute) and isinstance(node.ctx, ast.Store)}
+        self.assertEqual(methods & values, set())
+
+    def test_lists_and_dicts_of_a_files_top_are_only_read(self):
+        for path in FILES:
+            tree = ast.parse(path.read_text())
+            tops = {node.targets[0].id: node.value for node in tree.body if isinstance(node, ast.Assign)}
+            kept = {name for name in tops if isinstance(tops[name], (ast.List, ast.Dict))}
+            for name in kept:
+                inner = [node for node in ast.walk(tops[name]) if isinstance(node, (ast.List, ast.Dict))]
+                self.assertEqual(inner, [tops[name]], path.name)
+            above = {part: node for node in ast.walk(tree) for part in ast.iter_child_nodes(node)}
+            for node in ast.walk(tree):
+                if isinstance(node, ast.Name) and node.id in kept and isinstance(node.ctx, ast.Load):
+                    user = above[node]
+                    read = (isinstance(user, ast.Subscript) and isinstance(user.ctx, ast.Load)
+                            or isinstance(user, ast.Compare) or isinstance(user, ast.For)
+                            or isinstance(user, ast.Attribute) and user.attr == "get")
+                    self.assertTrue(read, f"{path.name}:{node.lineno}")
+
     def test_is_stands_beside_none_true_and_false(self):
         for where, node in self.each_node():
             if isinstance(node, ast.Compare) and isinstance(node.ops[0], (ast.Is, ast.IsNot)):
